@@ -1,0 +1,1 @@
+"""Secondruns: books of rules that change code, run again and beside others."""

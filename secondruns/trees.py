@@ -1,8 +1,9 @@
 """Trees of any language: their places, their pieces and their texts."""
 
-from secondruns.errors import BadText, NoPlace
-from secondruns.kinds import LETTERS, LONGEST_WORD, is_number, is_row
-from secondruns.nodes import as_tuples, nodes_in_order
+from secondruns.errors import NoPlace
+from secondruns.kinds import is_number, is_row
+from secondruns.nodes import as_tuples, nodes_in_order, nodes_with_places
+from secondruns.texts import read_whole, text_of
 
 
 def size(tree):
@@ -12,14 +13,7 @@ def size(tree):
 
 def places(tree):
     """The list of all places in a tree, in order."""
-    found = []
-    waiting = [(tree, ())]
-    while waiting:
-        node, place = waiting.pop()
-        found.append(place)
-        for k in reversed(range(len(node) - 1)):
-            waiting.append((node[k + 1], (*place, k)))
-    return found
+    return [place for _, place in nodes_with_places(tree)]
 
 
 def nodes_down(tree, place):
@@ -51,69 +45,11 @@ def placed(tree, place, other):
     return made
 
 
-def node_text(label, texts):
-    """The text of a node with these texts of its children."""
-    if not texts:
-        return label
-    inside = ", ".join(texts)
-    return f"{label}({inside})"
-
-
 def tree_text(tree):
     """A tree as a text."""
-    made = []
-    for node in nodes_in_order(tree)[::-1]:
-        texts = []
-        for _ in node[1:]:
-            texts.append(made.pop())
-        made.append(node_text(node[0], texts))
-    return made[0]
-
-
-def word_at(text, at):
-    """The word that begins in a text at this index; it is empty if none does."""
-    end = at
-    while end < len(text) and end < at + LONGEST_WORD and text[end] in LETTERS:
-        end = end + 1
-    return text[at:end]
-
-
-def closed(text, at, opened, node):
-    """Puts a node whose text ends ahead of an index into the nodes that are opened.
-
-    Closes those that end there, too. Returns the pair of the node that is closed last and the
-    index behind it and its comma: no node is open then, or the next child begins there.
-    """
-    while opened:
-        opened[-1].append(node)
-        sign = text[at:at + 1]
-        if sign == ",":
-            if text[at + 1:at + 2] != " ":
-                raise BadText(at + 1)
-            return (node, at + 2)
-        if sign != ")":
-            raise BadText(at)
-        node = tuple(opened.pop())
-        at = at + 1
-    return (node, at)
+    return text_of(tree)
 
 
 def read_tree(text):
     """The tree with this text."""
-    opened = []
-    at = 0
-    while True:
-        word = word_at(text, at)
-        if word == "":
-            raise BadText(at)
-        at = at + len(word)
-        if text[at:at + 1] == "(":
-            opened.append([word])
-            at = at + 1
-        else:
-            node, at = closed(text, at, opened, (word,))
-            if not opened:
-                break
-    if at < len(text):
-        raise BadText(at)
-    return node
+    return read_whole(text, False)

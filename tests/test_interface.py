@@ -13,6 +13,32 @@ FUNCTIONS = {
         "tree_text": ["tree"],
         "read_tree": ["text"],
     },
+    "rules": {
+        "shape_text": ["shape"],
+        "read_shape": ["text"],
+        "fit": ["rule", "tree"],
+    },
+    "books": {
+        "settled": ["book", "tree", "most"],
+    },
+    "types": {
+        "type_of": ["runs", "tree"],
+        "types": ["runs"],
+        "is_table": ["runs", "thing"],
+    },
+    "asking": {
+        "acts": ["runs", "at", "index"],
+        "second": ["book", "passes"],
+        "enough": ["book"],
+        "losing": ["book"],
+        "doubling": ["book"],
+    },
+}
+
+DEFAULTS = {
+    ("rules", "Rule"): {"kinds": None, "bars": None},
+    ("books", "Book"): {"below": False},
+    ("asking", "second"): {"passes": 1},
 }
 
 METHODS = {
@@ -26,6 +52,35 @@ METHODS = {
         "__len__": ["self"],
         "__eq__": ["self", "other"],
     },
+    ("rules", "Rule"): {
+        "__init__": ["self", "left", "right", "kinds", "bars"],
+        "holes": ["self"],
+        "kind": ["self", "hole"],
+        "bar": ["self", "hole"],
+        "__eq__": ["self", "other"],
+    },
+    ("books", "Book"): {
+        "__init__": ["self", "language", "rules", "below"],
+        "__call__": ["self", "tree"],
+        "done": ["self", "tree"],
+        "origins": ["self", "tree"],
+        "text": ["self"],
+        "__add__": ["self", "other"],
+        "__mul__": ["self", "other"],
+        "__pow__": None,
+        "__len__": ["self"],
+        "__eq__": ["self", "other"],
+    },
+    ("books", "Row"): {
+        "__init__": ["self", "books"],
+        "__call__": ["self", "tree"],
+        "steps": ["self", "tree"],
+        "__mul__": ["self", "other"],
+        "__len__": ["self"],
+        "__getitem__": None,
+        "__eq__": ["self", "other"],
+    },
+    ("asking", "Finding"): {},
 }
 
 
@@ -47,16 +102,32 @@ class Interface(unittest.TestCase):
             for method, parameters in methods.items():
                 found = vars(made)[method]
                 self.assertTrue(inspect.isfunction(found), method)
-                self.assertEqual(list(inspect.signature(found).parameters), parameters)
+                if parameters is not None:
+                    self.assertEqual(list(inspect.signature(found).parameters), parameters)
 
-    def test_class_method(self):
+    def test_defaults(self):
+        for file, names in list(FUNCTIONS.items()) + [(file, [name]) for file, name in METHODS]:
+            for name in names:
+                made = getattr(importlib.import_module(f"secondruns.{file}"), name)
+                if (file, name) != ("asking", "Finding"):
+                    found = {parameter.name: parameter.default
+                             for parameter in inspect.signature(made).parameters.values()
+                             if parameter.default is not inspect.Parameter.empty}
+                    self.assertEqual(found, DEFAULTS.get((file, name), {}), name)
+
+    def test_class_methods(self):
         language = importlib.import_module("secondruns.languages").Language
         self.assertIsInstance(vars(language)["read"], classmethod)
         self.assertEqual(list(inspect.signature(language.read).parameters), ["text"])
+        book = importlib.import_module("secondruns.books").Book
+        self.assertIsInstance(vars(book)["read"], classmethod)
+        self.assertEqual(list(inspect.signature(book.read).parameters), ["language", "text"])
 
-    def test_trees_is_a_generator(self):
+    def test_generators(self):
         language = importlib.import_module("secondruns.languages").Language
         self.assertTrue(inspect.isgeneratorfunction(language.trees))
+        row = importlib.import_module("secondruns.books").Row
+        self.assertTrue(inspect.isgeneratorfunction(row.steps))
 
     def test_labels_are_set_when_a_language_is_made(self):
         language = importlib.import_module("secondruns.languages").Language

@@ -172,6 +172,40 @@ class Subset(unittest.TestCase):
             code = ast.unparse(without_docstrings(tree))
             self.assertFalse(set(re.findall(r"\w+", code)) & BARRED_WORDS, path)
 
+    def test_names_of_generators_and_class_methods_mean_nothing_else(self):
+        attributes = {node.attr for _, node in self.each_node()
+                      if isinstance(node, ast.Attribute) and not isinstance(node.ctx, ast.Load)}
+        functions = [node for _, node in self.each_node() if isinstance(node, ast.FunctionDef)]
+        plain = [node.name for node in functions if not node.decorator_list and not yields(node)]
+        for node in functions:
+            if yields(node):
+                self.assertEqual([other.name for other in functions].count(node.name), 1, node.name)
+            if yields(node) or node.decorator_list:
+                self.assertNotIn(node.name, attributes)
+                self.assertNotIn(node.name, plain)
+
+    def test_no_name_is_a_method_and_an_attribute_in_one_class(self):
+        for where, node in self.each_node():
+            if isinstance(node, ast.ClassDef):
+                methods = {item.name for item in node.body if isinstance(item, ast.FunctionDef)}
+                attributes = {item.attr for item in ast.walk(node)
+                              if isinstance(item, ast.Attribute) and not isinstance(item.ctx, ast.Load)}
+                self.assertFalse(methods & attributes, where)
+
+    def test_what_does_not_occur_beside_an_index_operator(self):
+        for path in files():
+            self.assertIsNone(re.search(r"\(type\)|Meta|metaclass=|\bkeys\(self", path.read_text()), path)
+
+    def test_operators_do_not_add_in_place(self):
+        """Beside operators, hardly any of this is allowed, so there is none of it."""
+        for where, node in self.each_node():
+            self.assertNotIsInstance(node, ast.AugAssign, where)
+
+    def test_sorting(self):
+        for where, node in self.each_node():
+            if isinstance(node, ast.Call) and isinstance(node.func, ast.Attribute):
+                self.assertNotEqual(node.func.attr, "sort", where)
+
     def test_strings(self):
         for where, node in self.each_node():
             if isinstance(node, ast.Constant) and isinstance(node.value, str):
@@ -189,6 +223,10 @@ class Subset(unittest.TestCase):
                         self.assertIsInstance(
                             above[node], (ast.For, ast.comprehension, ast.Call, ast.Compare, ast.Assign),
                             (path, node.lineno))
+
+
+def yields(function):
+    return any(isinstance(node, (ast.Yield, ast.YieldFrom)) for node in ast.walk(function))
 
 
 def without_docstrings(tree):

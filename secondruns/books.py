@@ -107,12 +107,15 @@ class Book:
         return cls(language, rules, below)
 
 
-def wrong_book(books):
-    """The index of the first item that cannot stand in a row, or None."""
+def wrong_book(books, most=None):
+    """The index of the first item that cannot stand in a list of books of one language, or None.
+
+    There may be no more than so many of them, if this is told.
+    """
     if not is_row(books) or len(books) == 0:
         return 0
     for index, book in enumerate(books):
-        if not isinstance(book, Book) or index >= MOST_BOOKS:
+        if not isinstance(book, Book) or most is not None and index >= most:
             return index
         if book.language != books[0].language:
             return index
@@ -123,7 +126,7 @@ class Row:
     """A row of passes: up to three books of one language, one behind the other."""
 
     def __init__(self, books):
-        wrong = wrong_book(books)
+        wrong = wrong_book(books, MOST_BOOKS)
         if wrong is not None:
             raise BadRow(wrong)
         self.books = tuple(books)

@@ -16,7 +16,12 @@ def uses_of(language):
 
 
 class Growth:
-    """The trees that were the first of their types, in order, and the numbers that a stage gives to these."""
+    """The trees that were the first of their types, in order, and the numbers that a stage gives to these.
+
+    `sizes` tells how many nodes each of these trees has. `joins` tells all that was tried: tuples (label,
+    the kept trees beneath it, number of what they make), and `births` the join that made each kept tree.
+    `ends` tells for each number of nodes, from 0 on, how many joins have at most so many.
+    """
 
     def __init__(self, language, stage):
         self.language = language
@@ -25,8 +30,11 @@ class Growth:
         self.all_uses = uses_of(language)
         self.grown = []
         self.numbers = []
+        self.sizes = []
+        self.joins = []
+        self.births = []
+        self.ends = [0]
         self.known = {}
-        self.largest = 0
         self.taken = {}
         self.firsts = {}
 
@@ -35,8 +43,9 @@ class Growth:
         at = len(self.grown)
         self.grown.append(tree)
         self.numbers.append(number)
+        self.sizes.append(nodes)
+        self.births.append(len(self.joins) - 1)
         self.known[number] = True
-        self.largest = nodes
         for use in self.all_uses:
             key = (use, self.stage.view(use, number))
             if key not in self.taken:
@@ -57,24 +66,38 @@ class Growth:
                 found.extend([[one, other] for other in others])
         return found
 
-    def grow(self, nodes):
-        """Makes the trees with so many nodes. Returns the first one that is a hit, or None."""
+    def is_over(self):
+        """Whether all has been tried."""
+        # The greatest tree to try is a label above trees of the greatest size that was kept.
+        return self.sizes != [] and len(self.ends) > self.most * self.sizes[-1] + 1
+
+    def grow(self):
+        """Makes the trees with one more node than the last ones. Returns the first one that is a hit, or None."""
+        nodes = len(self.ends)
         for label in self.language.labels:
             for choice in self.choices(label, nodes):
                 number = self.stage.node(label, [self.numbers[at] for at in choice])
+                self.joins.append((label, choice, number))
                 if number not in self.known:
                     tree = (label, *[self.grown[at] for at in choice])
                     self.admit(nodes, tree, number)
                     if self.stage.is_hit(number):
                         return tree
+        self.ends.append(len(self.joins))
         return None
+
+    def joins_with(self, nodes):
+        """The numbers of all joins with so many nodes."""
+        while len(self.ends) <= nodes and not self.is_over():
+            self.grow()
+        if len(self.ends) <= nodes:
+            return []
+        return list(range(self.ends[nodes - 1], self.ends[nodes]))
 
     def first_hit(self):
         """Makes trees until one is a hit, and returns it; None if there are no more types."""
-        nodes = 1
-        while nodes <= self.most * self.largest + 1:
-            tree = self.grow(nodes)
+        while not self.is_over():
+            tree = self.grow()
             if tree is not None:
                 return tree
-            nodes = nodes + 1
         return None

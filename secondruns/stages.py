@@ -119,6 +119,15 @@ class Stage:
             known[number] = numbers.setdefault(self.seen(use, number), len(numbers))
         return known[number]
 
+    def number_there(self, number, place):
+        """The number that what is behind gives to what the pass makes of the piece at a place.
+
+        (ABSENT if it does not count.)
+        """
+        if place not in self.kept:
+            return ABSENT
+        return self.types[number][4][self.kept.index(place)]
+
     def seen(self, use, number):
         """All that counts of a number for a use: two with the same are one as this child of this label."""
         label, child = use

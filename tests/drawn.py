@@ -4,7 +4,7 @@ import random
 
 from secondruns.books import Book
 from secondruns.languages import Language
-from secondruns.rules import Rule
+from secondruns.rules import Rule, holes_in
 
 CHAINS = [
     [("a", 0), ("f", 1), ("g", 1), ("h", 1)],
@@ -18,6 +18,17 @@ FORKS = [
     [("f", 1), ("p", 2), ("a", 0)],
     [("a", 0), ("p", 2)],
 ]
+
+
+def is_straight(book):
+    """Whether no rule of a book writes a hole twice."""
+    written = [holes_in(rule.right) for rule in book.rules]
+    return all([len(set(holes)) == len(holes) for holes in written])
+
+
+def labels_of(books):
+    """The number of the labels of the left shapes of some books."""
+    return sum([len(book.parts.named) for book in books])
 
 
 class Drawing:
@@ -93,6 +104,77 @@ class Drawing:
         for _ in range(most):
             labels[self.rng.randrange(many)] += 1
         return [self.book(n) for n in labels]
+
+    def straight_book(self, labels):
+        """A book with at most so many labels in its left shapes, no rule of which writes a hole twice."""
+        book = self.book(labels)
+        while not is_straight(book):
+            book = self.book(labels)
+        return book
+
+    def kin(self, book):
+        """A book that differs from a book in one thing, or in nothing."""
+        rules = list(book.rules)
+        below = book.below
+        turn = self.rng.randrange(6)
+        at = self.rng.randrange(max(1, len(rules)))
+        if turn == 0:
+            below = not below
+        elif turn == 1:
+            self.rng.shuffle(rules)
+        elif turn == 2 and rules:
+            rules.pop(at)
+        elif turn == 3 and rules:
+            rules[at] = Rule(rules[at].left, rules[at].right)
+        elif turn == 4 and 0 < len(rules) < 3:
+            rules.append(rules[at])
+        return Book(self.language, rules, below)
+
+    def limits(self):
+        """How many labels two runs that are compared, and two that are exchanged, may have together."""
+        return (6, 3) if self.has_fork else (8, 4)
+
+    def two_rows(self):
+        """The books of two rows that may be compared."""
+        while True:
+            ones = [self.straight_book(self.rng.randint(0, 3)) for _ in range(self.rng.randint(1, 3))]
+            if self.rng.random() < 0.5:
+                others = [self.kin(book) for book in ones]
+            else:
+                others = [self.straight_book(self.rng.randint(0, 3)) for _ in range(self.rng.randint(1, 3))]
+            if labels_of(ones + others) <= self.limits()[0]:
+                return ones, others
+
+    def two_books(self):
+        """Two books that may be compared; their rules may write a hole twice."""
+        while True:
+            one = self.book(self.rng.randint(1, 4))
+            other = self.kin(one) if self.rng.random() < 0.6 else self.book(self.rng.randint(1, 4))
+            if labels_of([one, other]) <= self.limits()[0]:
+                return one, other
+
+    def two_runs(self):
+        """The books of two runs that may be exchanged: three books at most."""
+        while True:
+            many = self.rng.choice([(1, 1), (1, 1), (2, 1), (1, 2)])
+            ones, others = [[self.straight_book(self.rng.randint(0, 3)) for _ in range(n)] for n in many]
+            if self.rng.random() < 0.3:
+                others[0] = self.kin(ones[0])
+            if labels_of(ones + others) <= self.limits()[1]:
+                return ones, others
+
+    def greater_tree(self, nodes):
+        """A tree with so many nodes."""
+        if nodes == 1:
+            return (self.rng.choice([label for label, many in self.rows if many == 0]),)
+        rows = [row for row in self.rows if 0 < row[1] < nodes]
+        if not rows or self.rng.random() < 0.08:
+            rows = [("keep", 1)]
+        label, many = self.rng.choice(rows)
+        if many == 1:
+            return (label, self.greater_tree(nodes - 1))
+        first = self.rng.randint(1, nodes - 2)
+        return (label, self.greater_tree(first), self.greater_tree(nodes - 1 - first))
 
     def trees(self, many):
         """The first so many trees, in order."""

@@ -86,14 +86,6 @@ class Calls:
             waiting.extend(lacking)
         return known[(places, at)]
 
-    def value_at(self, term, at):
-        """What a term comes to for a kept tree."""
-        contents = {}
-        for call in self.terms.calls_in(term):
-            run, places = self.terms.rows[call]
-            contents[call] = self.outcome(run, places, at)
-        return self.terms.put(term, contents)
-
     def led_call(self, run, places, join, unknown):
         """What a call comes to for the trees of a join of which one child is unknown."""
         draft = self.draft(join, run, places)

@@ -77,7 +77,7 @@ def greatest_lots(books):
         clashes.extend([(i, j) for i in range(j) if not any_order(books[i], other)])
     found = []
     for lot in sorted(choices_out_of(list(range(len(books)))), key=len, reverse=True):
-        is_lot = lot != () and not any([is_within(clash, lot) for clash in clashes])
+        is_lot = not any([is_within(clash, lot) for clash in clashes])
         if is_lot and not any([is_within(lot, greater) for greater in found]):
             found.append(lot)
     return found

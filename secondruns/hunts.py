@@ -2,9 +2,11 @@
 
 A PAIR is a tuple (use, at, one, other) of two terms that should be the same for each unknown tree that
 counts for this use as the kept tree number `at` does, which is the least of them (for each tree at all, if
-the use is None). If they are not the same for this very tree, it is the least one that parts them.
-Otherwise they have no more labels than its outcome. So there are finitely many pairs to be looked at, and
-each is led on by the joins that make its trees.
+the use is None). It is led on by the joins that make its trees, and comes to further pairs, or to labels
+that are not the same. Pairs are led on in the order of the sizes of the trees in which they come up. So if
+a tree parts the first pair, the search ends with the size of the least one. If there is none, each pair is
+the same for its least tree, so neither of its terms has more labels than the outcome for this tree, and
+there are finitely many pairs.
 
 FACT: of the least two trees (x, y) that part a pair under a label with two children, one is the least tree
 that may stand there. For one side of the pair is a call, say on x. Let m and n be the least trees that may
@@ -21,7 +23,7 @@ class Hunt:
     `waiting` tells by these sizes the tuples (pair, nodes around its unknown tree, nodes of that one).
     `above` tells for each pair whence it came, as tuples (pair, join, number of the unknown child);
     `found` tells by sizes the tuples (pair, tree that parts it); `most` is the size of the least tree that
-    parts the first pair, as far as is known.
+    parts the first pair, once it is known.
     """
 
     def __init__(self, calls):
@@ -66,22 +68,18 @@ class Hunt:
     def part(self, pair, around, tree, nodes):
         """Notes that a tree with so many nodes parts a pair."""
         self.found.setdefault(nodes, []).append((pair, tree))
-        if self.most is None or around + nodes < self.most:
-            self.most = around + nodes
+        self.most = around + nodes
 
     def look(self, pair, around, nodes):
-        """Looks at a pair: it is parted by its least tree, or it is led on by joins with so many nodes."""
-        use, at, one, other = pair
+        """Leads a pair on by the joins with so many nodes, and has it wait for those with more."""
+        use, at, _, _ = pair
         if nodes == self.growth.sizes[at]:
             if pair in self.looked:
                 return
             self.looked[pair] = True
-            if self.calls.value_at(one, at) != self.calls.value_at(other, at):
-                self.part(pair, around, self.growth.grown[at], nodes)
-                return
         for join in self.joins_of(use, at, nodes):
             self.lead(pair, around, join, nodes)
-        if len(self.growth.ends) > nodes + 1 or not self.growth.is_over():
+        if nodes + 1 < len(self.growth.ends) or not self.growth.is_over():
             self.wait(pair, around, nodes + 1)
 
     def lead(self, pair, around, join, nodes):
@@ -101,13 +99,11 @@ class Hunt:
                 self.wait(further, around + nodes - self.growth.sizes[at], self.growth.sizes[at])
 
     def look_around(self, first):
-        """Looks at all pairs by way of which the least tree could part the first pair."""
+        """Leads on all pairs by way of which the least tree could part the first pair."""
         self.growth.joins_with(1)
         self.wait(first, 0, 1)
-        while self.waiting != {}:
+        while self.waiting != {} and self.most is None:
             size = min(self.waiting)
-            if self.most is not None and size > self.most:
-                return
             while self.waiting[size] != []:
                 pair, around, nodes = self.waiting[size].pop()
                 self.look(pair, around, nodes)

@@ -4,10 +4,12 @@ import unittest
 
 from secondruns.asking import second
 from secondruns.books import Book, Row
+from secondruns.calls import Calls
 from secondruns.comparing import (
     Parting, alike, any_order, order_parting, parting, same_again, undoes,
 )
 from secondruns.errors import RunError, UnlikeLanguages
+from secondruns.hunts import Hunt
 from secondruns.languages import Language
 from secondruns.rules import Rule
 from secondruns.trees import read_tree, size, tree_text
@@ -295,6 +297,64 @@ class Drawn(Checks):
                 for tree in lesser_trees(drawing.language, found.tree):
                     self.assertEqual(one(tree), other(tree), (number, tree))
         self.assertGreaterEqual(greatest, 6)
+
+
+class Led(Hunt):
+    """A search that notes by which joins each pair was led on."""
+
+    def __init__(self, calls):
+        super().__init__(calls)
+        self.led = {}
+
+    def lead(self, pair, around, join, nodes):
+        self.led.setdefault(pair, []).append(join)
+        super().lead(pair, around, join, nodes)
+
+
+class AllPairs(unittest.TestCase):
+    """Promise [33]: where two runs are told to be alike, each pair was led on by all that may stand there."""
+
+    def check(self, language, rows):
+        calls = Calls(language, rows)
+        hunt = Led(calls)
+        calls_first = [calls.call(run, tuple([() for _ in books])) for run, books in enumerate(rows)]
+        if hunt.least_parting((None, 0, *calls_first)) is not None:
+            return 0
+        growth = calls.growth
+        self.assertTrue(growth.is_over())
+        self.assertEqual(set(hunt.led), set(hunt.looked))
+        for pair, joins in hunt.led.items():
+            use, at, one, other = pair
+            wanted = [join for join, (_, _, number) in enumerate(growth.joins)
+                      if use is None or growth.stage.view(use, number) == growth.stage.view(use, growth.numbers[at])]
+            self.assertEqual(joins, wanted)
+            self.assertEqual(growth.joins[wanted[0]][1], growth.joins[growth.births[at]][1])
+        return len(hunt.led)
+
+    def test_drawn(self):
+        many = 0
+        for number in range(3500, 3600):
+            drawing = Drawing(number)
+            ones, others = drawing.two_rows()
+            many += self.check(drawing.language, [ones, others])
+            one = drawing.two_books()[0]
+            many += self.check(drawing.language, [[one], [one]])
+        self.assertGreater(many, 500)
+
+    def test_a_run_that_begins_with_the_other_one(self):
+        """What passes of a part of the books make is told alike by two runs and by one."""
+        told = set()
+        for number in range(3600, 3700):
+            drawing = Drawing(number)
+            ones, others = drawing.two_rows()
+            whole, part = (ones + others)[:3], (ones + others)[:1]
+            found = parting(Row(whole), Row(part))
+            told.add(found is None)
+            calls = Calls(drawing.language, [whole, part])
+            first = [calls.call(run, tuple([() for _ in books])) for run, books in enumerate([whole, part])]
+            tree = Hunt(calls).least_parting((None, 0, *first))
+            self.assertEqual(tree, None if found is None else found.tree)
+        self.assertEqual(told, {False, True})
 
 
 class Orders(Checks):

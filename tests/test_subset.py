@@ -206,6 +206,22 @@ class Subset(unittest.TestCase):
             if isinstance(node, ast.Call) and isinstance(node.func, ast.Attribute):
                 self.assertNotEqual(node.func.attr, "sort", where)
 
+    def test_stars_in_calls(self):
+        for where, node in self.each_node():
+            if isinstance(node, ast.Call):
+                for argument in node.args:
+                    if isinstance(argument, ast.Starred):
+                        self.assertIsInstance(argument.value, (ast.Name, ast.List, ast.Tuple), where)
+                for keyword in node.keywords:
+                    self.assertIn(keyword.arg, ("key", "reverse", "default", "start"), where)
+
+    def test_no_name_is_a_method_of_one_class_and_an_attribute_of_another(self):
+        classes = [node for _, node in self.each_node() if isinstance(node, ast.ClassDef)]
+        methods = {item.name for node in classes for item in node.body if isinstance(item, ast.FunctionDef)}
+        attributes = {item.attr for node in classes for item in ast.walk(node)
+                      if isinstance(item, ast.Attribute) and not isinstance(item.ctx, ast.Load)}
+        self.assertFalse(methods & attributes)
+
     def test_strings(self):
         for where, node in self.each_node():
             if isinstance(node, ast.Constant) and isinstance(node.value, str):

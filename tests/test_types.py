@@ -175,6 +175,25 @@ class Types(unittest.TestCase):
                 self.assertEqual(acts(book, 0, index) is None, not found)
 
 
+    def test_least_trees_far_greater_than_the_ones_ahead(self):
+        """Sizes of which no type has its least tree may stand between the sizes of two least trees."""
+        thin = Language([("a", 0), ("p", 2)])
+        for texts, many, greatest in [
+            (["below\np(?x, ?y) -> ?x\n  x bar a p\n  y bar a", "above\np(?x, ?y) -> a\n  y kind a keep\n  y bar a p",
+              "above\np(?x, ?y) -> keep(?y)\n  x bar p"], 9, 23),
+            (["below\na -> keep(p(a, a))\np(?x, ?y) -> a\n  x bar a p\n  y kind a p\n  y bar a",
+              "above\na -> a\np(?x, ?y) -> ?x\n  x kind a keep\n  x bar keep"], 9, 26),
+        ]:
+            row = Row([Book.read(thin, text) for text in texts])
+            found = types(row)
+            sizes = [size(tree) for _, tree in found]
+            self.assertEqual((len(found), sizes[-1]), (many, greatest))
+            self.assertGreater(max([later - earlier for earlier, later in zip(sizes, sizes[1:])]), 8)
+            for told, tree in found:
+                self.assertEqual(told, slow_type(row.books, tree))
+            self.assertTrue(is_table(row, found))
+
+
 class Tables(unittest.TestCase):
     def check(self, runs, thing, wanted):
         self.assertIs(is_table(runs, thing), wanted)
